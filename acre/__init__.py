@@ -1,0 +1,1 @@
+"""Acre: land in the plane, told exactly."""
