@@ -35,3 +35,12 @@ def half(one):
 # Both bottoms are above 0, so multiplying by them keeps the order.
 def under(one, other):
     return one[0] * other[1] < other[0] * one[1]
+
+
+# Neighbours two by two, so that long numbers meet only in the last steps.
+def total(some):
+    sums = list(some)
+    while len(sums) > 1:
+        pairs = [plus(sums[k], sums[k + 1]) for k in range(0, len(sums) - 1, 2)]
+        sums = pairs + sums[2 * len(pairs):]
+    return sums[0] if len(sums) == 1 else (0, 1)

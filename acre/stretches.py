@@ -16,6 +16,13 @@ def stretches_of(fences):
     return [stretch(P, Q) for P, Q in fences]
 
 
+def ends_of(stretches):
+    ends = []
+    for S in stretches:
+        ends.extend(S)
+    return ends
+
+
 def lies_on(P, S):
     if turn(S[0], S[1], P) != 0:
         return False

@@ -1,7 +1,7 @@
 """The sweep: where many stretches begin, end and meet, and the pieces into which they are cut there."""
 
 from acre.points import by_points, in_order, order_keys
-from acre.stretches import meet
+from acre.stretches import ends_of, meet
 
 
 def stops(stretches):
@@ -48,7 +48,7 @@ def shared_ends(common):
 
 # Pairs of numbers of stretches; those that are left out lie too far apart to meet.
 def near_pairs(stretches):
-    keys = end_keys(stretches)
+    keys = order_keys(ends_of(stretches))
     lows = [min(keys[S[0]][1], keys[S[1]][1]) for S in stretches]
     highs = [max(keys[S[0]][1], keys[S[1]][1]) for S in stretches]
     lasts = [keys[S[1]] for S in stretches]
@@ -63,13 +63,6 @@ def near_pairs(stretches):
         pairs.extend([(number, other) for other in near if highs[other] >= low])
         standing.append(number)
     return pairs
-
-
-def end_keys(stretches):
-    ends = []
-    for S in stretches:
-        ends.extend(S)
-    return order_keys(ends)
 
 
 def pieces(stretches):

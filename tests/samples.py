@@ -2,6 +2,7 @@
 
 import decimal
 import fractions
+import functools
 import math
 import random
 
@@ -30,6 +31,7 @@ def fraction_pairs():
     return [((one.numerator, one.denominator), one) for one in sorted(found)]
 
 
+@functools.lru_cache(maxsize=None)
 def place(P):
     """How far to the right and above a point lies, as fractions of Python's own library."""
     return (fractions.Fraction(P[0], P[2]), fractions.Fraction(P[1], P[2]))
@@ -131,3 +133,130 @@ def nets():
                                 (6, SIXTY, SIXTY)]:
         told.extend(drawn_stretches(draw, many, span, bottom) for _ in range(6))
     return told
+
+
+def plain_height(S, x):
+    """How far above a stretch that is not upright lies at x."""
+    (a, b), (c, d) = place(S[0]), place(S[1])
+    return b + (d - b) * (x - a) / (c - a)
+
+
+def plain_above(stretches, P):
+    x, y = place(P)
+    return sum(place(S[0])[0] <= x < place(S[1])[0] and plain_height(S, x) > y for S in stretches)
+
+
+def plain_in(rings, P):
+    """True or False by the one rule, and None for a point on a side."""
+    sides = plain_sides(rings)
+    if any(plain_on(P, S) for S in sides):
+        return None
+    return plain_above(sides, P) % 2 == 1
+
+
+def as_stretches(fences):
+    return [tuple(sorted(fence, key=place)) for fence in fences]
+
+
+def near(fence, hand):
+    """A place near the middle of a fence, at its left hand (1) or its right hand (-1), ahead of all others."""
+    (a, b), (c, d) = place(fence[0]), place(fence[1])
+    return lambda part: at((a + c) / 2 - hand * part * (d - b), (b + d) / 2 + hand * part * (c - a))
+
+
+def plain_is_land(fences):
+    """The four things of a land, each looked at as plainly as can be."""
+    stretches = as_stretches(fences)
+    if fences != sorted(set(fences), key=lambda fence: (place(fence[0]), place(fence[1]))):
+        return False
+    for one, S in enumerate(stretches):
+        for T in stretches[:one]:
+            shared = {P for P in S + T if plain_on(P, S) and plain_on(P, T)}
+            if len(shared) > 1 or any(P not in S or P not in T for P in shared) or plain_crossing(S, T):
+                return False
+    ends = {P for fence in fences for P in fence}
+    for P in ends:
+        coming = [A for A, Q in fences if Q == P]
+        going = [B for Q, B in fences if Q == P]
+        if len(coming) != len(going):
+            return False
+        if len(going) == 1 and area_of_turn(coming[0], P, going[0]) == 0:
+            return False
+    return all(plain_hands(fence, stretches) == (True, False) for fence in fences)
+
+
+def plain_crossing(S, T):
+    spot = plain_spot(S, T)
+    return spot is not None and spot not in S + T
+
+
+def plain_hands(fence, stretches):
+    told = []
+    for hand in (1, -1):
+        part, find = fractions.Fraction(1, 4), near(fence, hand)
+        # Nearer and nearer, until no other stretch lies between the middle and the place.
+        while any(plain_touches(S, (near(fence, 0)(0), find(part))) for S in stretches if set(S) != set(fence)):
+            part /= 4
+        told.append(plain_above_parity(stretches, find(part)))
+    return tuple(told)
+
+
+def plain_touches(S, way):
+    way = tuple(sorted(way, key=place))
+    if any(plain_on(P, S) for P in way) or any(plain_on(P, way) for P in S):
+        return True
+    return plain_spot(S, way) is not None
+
+
+def plain_above_parity(stretches, P):
+    return plain_above(stretches, P) % 2 == 1
+
+
+SQUARE = row_of((0, 0), (4, 0), (4, 4), (0, 4))
+RING_LISTS = {
+    "none": [], "an empty ring": [[]], "one point": [row_of((1, 2))], "two points": [row_of((0, 0), (3, 1))],
+    "a square": [SQUARE], "a triangle": [row_of((0, 0), (3, 1), (1, "5/2"))],
+    "a hole": [SQUARE, row_of((1, 1), (3, 1), (3, 3), (1, 3))],
+    "an island in a hole": [row_of((0, 0), (9, 0), (9, 9), (0, 9)), row_of((1, 1), (8, 1), (8, 8), (1, 8)),
+                            row_of((3, 3), (6, 3), (6, 6), (3, 6)), row_of((4, 4), (5, 4), (5, 5))],
+    "a hole at a corner": [SQUARE, row_of((0, 0), (2, 1), (1, 2))],
+    "a hole at a side": [SQUARE, row_of((2, 0), (3, 1), (1, 1))],
+    "two holes that touch": [row_of((0, 0), (6, 0), (6, 6), (0, 6)), row_of((1, 1), (3, 1), (3, 3), (1, 3)),
+                             row_of((3, 3), (5, 3), (5, 5), (3, 5))],
+    "two squares at a corner": [row_of((0, 0), (1, 0), (1, 1), (0, 1)), row_of((1, 1), (2, 1), (2, 2), (1, 2))],
+    "two squares at the other corner": [row_of((0, 1), (1, 1), (1, 2), (0, 2)), row_of((1, 0), (2, 0), (2, 1), (1, 1))],
+    "two squares at a side": [row_of((0, 0), (1, 0), (1, 1), (0, 1)), row_of((1, 0), (2, 0), (2, 1), (1, 1))],
+    "two squares at part of a side": [row_of((0, 0), (2, 0), (2, 2), (0, 2)), row_of((2, 1), (4, 1), (4, 3), (2, 3))],
+    "two squares that overlap": [row_of((0, 0), (3, 0), (3, 3), (0, 3)), row_of((1, 1), (5, 1), (5, 4), (1, 4))],
+    "a bow": [row_of((0, 0), (4, 4), (4, 0), (0, 4))],
+    "a star": [row_of((0, 5), (10, 5), (2, 0), (5, 9), (8, 0))],
+    "twice round": [SQUARE + SQUARE], "a ring and itself": [SQUARE, SQUARE], "thrice": [SQUARE, SQUARE, SQUARE[::-1]],
+    "to and fro": [row_of((0, 0), (4, 0), (4, 4), (6, 6), (4, 4), (0, 4))],
+    "alike points": [row_of((0, 0), (0, 0), (4, 0), (4, 0), (4, 0), (0, 4), (0, 0))],
+    "back at its own points": [row_of((0, 0), (2, 2), (4, 0), (4, 4), (2, 2), (0, 4))],
+    "four wedges at a point": [row_of((0, 0), (3, 1), (3, -1)), row_of((0, 0), (1, 3), (-1, 3)),
+                               row_of((0, 0), (-3, 1), (-3, -1)), row_of((0, 0), (-1, -3), (1, -3))],
+    "points amid sides": [row_of((0, 0), (2, 0), (4, 0), (4, 1), (4, 4), (1, 4), (0, 4))],
+    "two holes at one corner": [row_of((0, 0), (8, 0), (8, 8), (0, 8)), row_of((4, 4), (6, 3), (6, 5)),
+                                row_of((4, 4), (2, 3), (2, 5)), row_of((4, 4), (3, 7), (5, 7))],
+    "a chain of holes": [row_of((0, 0), (6, 0), (6, 6), (0, 6)), row_of((0, 3), (2, 2), (2, 4)),
+                         row_of((2, 4), (4, 2), (4, 4)), row_of((4, 2), (6, 1), (5, 3))],
+    "far off": [row_of((-SIXTY, 0), (SIXTY, 1), (1, SIXTY)), row_of((0, -SIXTY), (1, SIXTY_TWO), (5, 7))],
+}
+
+
+def drawn_ring_lists(seed, many):
+    draw = random.Random(seed)
+    kinds = [(1, 3, 3, 1), (1, 5, 2, 1), (2, 4, 3, 1), (3, 4, 2, 1), (1, 8, 5, 1), (2, 5, 4, 2), (4, 4, 3, 3)]
+    told = []
+    for number in range(many):
+        rings, points, span, bottom = kinds[number % len(kinds)]
+        told.append([drawn_points(draw, points, span, bottom) for _ in range(rings)])
+    return told
+
+
+def probes(seed, many=30, span=6):
+    """Points that lie on no side of a ring with small numbers, or hardly ever."""
+    draw = random.Random(seed)
+    return [at(fractions.Fraction(draw.randint(-span * 97, span * 97), 97),
+               fractions.Fraction(draw.randint(-span * 89, span * 89), 89)) for _ in range(many)]

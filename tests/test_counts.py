@@ -4,19 +4,8 @@ import unittest
 
 from acre.counts import above, hands, is_upright
 from acre.sweep import pieces
-from tests.samples import (SIXTY, THREE_HUNDRED, at, drawn_points, drawn_stretches, nets, place, plain_on,
-                           plain_sides, plain_spot, reach, row_of)
-
-
-def height(S, x):
-    """How far above a stretch that is not upright lies at x."""
-    (a, b), (c, d) = place(S[0]), place(S[1])
-    return b + (d - b) * (x - a) / (c - a)
-
-
-def plain_above(stretches, P):
-    x, y = place(P)
-    return sum(place(S[0])[0] <= x < place(S[1])[0] and height(S, x) > y for S in stretches)
+from tests.samples import (SIXTY, THREE_HUNDRED, at, drawn_points, drawn_stretches, nets, place, plain_above, plain_on,
+                           plain_sides, plain_touches, reach, row_of)
 
 
 def drawn_rings():
@@ -87,15 +76,9 @@ def plain_odd(stretches, P, toward):
         way = tuple(sorted((P, at(*near)), key=place))
         ends = {place(Q)[0] for S in stretches for Q in S}
         if not any(min(x, near[0]) <= end <= max(x, near[0]) and end != x for end in ends) \
-                and not any(crossing(S, way) for S in off):
+                and not any(plain_touches(S, way) for S in off):
             return plain_above(stretches, at(*near)) % 2 == 1
         step /= 2
-
-
-def crossing(S, way):
-    if any(plain_on(P, S) for P in way) or any(plain_on(P, way) for P in S):
-        return True
-    return plain_spot(S, way) is not None
 
 
 class Hands(unittest.TestCase):

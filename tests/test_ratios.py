@@ -3,7 +3,7 @@ import math
 import unittest
 
 from acre import errors
-from acre.ratios import fraction, half, minus, plus, times, under
+from acre.ratios import fraction, half, minus, plus, times, total, under
 from tests.samples import NOT_WHOLE, SIXTY, THREE_HUNDRED, THREE_HUNDRED_TWO, WHOLES, fraction_pairs
 
 OTHER_REFUSALS = (errors.NoPoint, errors.NoStretch, errors.NoName, errors.NoText, errors.NoRow)
@@ -102,6 +102,15 @@ class Reckoned(Told):
         for one, first in fraction_pairs():
             with self.subTest(one=one):
                 self.told_as(half(one), first / 2)
+
+    def test_totals(self):
+        some = fraction_pairs()
+        for many in (0, 1, 2, 3, 4, 5, 7, 8, len(some)):
+            with self.subTest(many=many):
+                row = [one for one, first in some[:many]]
+                kept = list(row)
+                self.told_as(total(row), sum([first for one, first in some[:many]], fractions.Fraction(0)))
+                self.assertEqual(row, kept)
 
     def test_three_hundred_figures(self):
         first = fractions.Fraction(-THREE_HUNDRED, THREE_HUNDRED_TWO - 1)
