@@ -96,7 +96,7 @@ def is_balanced(fences):
 # No two have anything in common but an end of each. Alike ones make no stop within one of them, so they are
 # asked for by themselves; others that overlap, and those that cross, do.
 def are_apart(stretches):
-    if len(dict([(S, True) for S in stretches])) < len(stretches):
+    if len(set(stretches)) < len(stretches):
         return False
     return all([through == [] for P, begins, through, ends in stops(stretches)])
 

@@ -150,11 +150,19 @@ def faults_of_try(node):
 def stands_rightly(node):
     if isinstance(node.parent, ast.Call):
         if node.parent.func is node:
-            return node.id not in ("set", "frozenset")
+            return node.id not in ("set", "frozenset") or told_at_once(node.parent)
         return isinstance(node.parent.func, ast.Name) and node.parent.func.id == "isinstance"
     if isinstance(node.parent, ast.keyword):
         return node.parent.arg == "key"
     return isinstance(node.parent, (ast.Tuple, ast.ClassDef, ast.ExceptHandler))
+
+
+def told_at_once(node):
+    """L24, in the form that is used: a set straight within sorted or len."""
+    parent = node.parent
+    if not isinstance(parent, ast.Call) or not isinstance(parent.func, ast.Name) or parent.keywords:
+        return False
+    return parent.func.id in ("sorted", "len")
 
 
 def faults_of_call(node, defined):
