@@ -1,7 +1,7 @@
 """Counts: how many stretches stand above a point, and so at which hand of a stretch land lies."""
 
-from acre.halving import halved
 from acre.points import amid, in_order, line_of, side_of, turn
+from acre.rows import halved
 from acre.stretches import ends_of, lies_on
 
 

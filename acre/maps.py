@@ -1,9 +1,9 @@
 """Maps: lands by names, asked for a point by halving."""
 
 from acre.errors import NoName
-from acre.halving import halved
 from acre.points import across, before, turn
 from acre.ratios import under
+from acre.rows import halved
 from acre.slabs import slabs
 
 

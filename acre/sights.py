@@ -1,9 +1,9 @@
 """Sights: what of a land is seen from a point in it."""
 
-from acre.halving import halved
 from acre.joins import join
 from acre.lands import land_of, where
 from acre.points import amid, before, line_of, met, side_of, turn
+from acre.rows import halved
 from acre.triangles import corners_of
 
 

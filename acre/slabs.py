@@ -2,6 +2,7 @@
 
 from acre.counts import is_upright
 from acre.points import across, by_points, in_order, line_of, met
+from acre.rows import numbers_of
 from acre.stretches import ends_of, stretches_of
 from acre.sweep import pieces
 
@@ -29,15 +30,8 @@ def places_of(parts):
     return places
 
 
-def place_numbers(places):
-    numbers = {}
-    for number, place in enumerate(places):
-        numbers[place] = number
-    return numbers
-
-
 def layers_of(cut, places, names):
-    numbers = place_numbers(places)
+    numbers = numbers_of(places)
     layers = [{} for place in places[1:]]
     for S, own in cut:
         # An upright piece begins and ends at one place, so it gives no parts.
@@ -73,7 +67,7 @@ def named(numbers, names):
 
 
 def uprights_of(cut, places, names):
-    numbers = place_numbers(places)
+    numbers = numbers_of(places)
     told = [[] for place in places]
     for S, own in cut:
         if is_upright(S):

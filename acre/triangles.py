@@ -2,6 +2,7 @@
 
 from acre.points import amid, by_points, in_order, line_of, side_of, turn
 from acre.rings import first_right
+from acre.rows import numbers_of
 from acre.stretches import ends_of, stretches_of
 
 
@@ -12,8 +13,8 @@ def corners_of(land):
 def diagonals(land):
     corners = corners_of(land)
     tips = tips_of(land)
-    ranks = ranks_of(corners)
-    barriers = numbered(stretches_of(land), ranks)
+    numbers = numbers_of(corners)
+    barriers = [(numbers[S[0]], numbers[S[1]]) for S in stretches_of(land)]
     taken = []
     for first in range(len(corners)):
         for second in range(first + 1, len(corners)):
@@ -24,17 +25,6 @@ def diagonals(land):
                 # What hinders one is likely to hinder its neighbours, so the newest is asked first.
                 barriers = [(first, second)] + barriers
     return taken
-
-
-def ranks_of(corners):
-    ranks = {}
-    for number, P in enumerate(corners):
-        ranks[P] = number
-    return ranks
-
-
-def numbered(stretches, ranks):
-    return [(ranks[S[0]], ranks[S[1]]) for S in stretches]
 
 
 # For each corner the far ends of its fences, with True for those that leave it, False for those that come.

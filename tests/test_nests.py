@@ -41,6 +41,16 @@ class LiesIn(unittest.TestCase):
         self.assertIs(lies_in(square(4, 4, 2), SQUARE), False)
 
 
+    def test_the_first_side_tells_it(self):
+        # The third point, or a point amid the first and the third one, would tell otherwise.
+        ring = row_of((0, 0), (5, 4), (10, 0), (5, 8))
+        self.assertIs(lies_in(ring, square(4, -1, 2)), False)
+        self.assertIs(lies_in(ring, row_of((-1, -1), (11, -1), (5, 20))), True)
+        # The second point is a corner of both.
+        self.assertIs(lies_in(row_of((1, 1), (4, 4), (2, 3)), SQUARE), True)
+        self.assertIs(lies_in(row_of((1, 1), (4, 4), (3, 0)), SQUARE), True)
+
+
 class Nest(unittest.TestCase):
     def test_none_and_one(self):
         self.assertEqual(nest([]), [])
